@@ -1,0 +1,1 @@
+"""Sealedslots: pages from which every text is read back."""

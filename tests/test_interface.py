@@ -1,0 +1,62 @@
+"""The interface: each name stands in its file, each method in its class, with its parameters."""
+
+import ast
+import importlib
+import inspect
+import pathlib
+import unittest
+
+PACKAGE = pathlib.Path(__file__).resolve().parent.parent / "sealedslots"
+
+FUNCTIONS = {
+    "readers": {"is_sign": "value", "is_mark": "value", "is_word": "value", "is_row": "value"},
+    "pages": {"passed": "reader, state, word", "reading": "reader, page", "steps": "reader, page",
+              "least_page": "reader, row", "shortest_page": "reader", "useful_states": "reader", "trimmed": "reader"},
+    "languages": {"both": "one, other", "either": "one, other", "without": "one, other", "first_outside": "one, other",
+                  "is_within": "one, other", "least_text": "language", "members": "language, most"},
+}
+CLASSES = {
+    ("readers", "Reader"): {
+        "__init__": "self, states, ends=(), *, start=0", "of": "*states, ends=(), start=0", "ends": "self",
+        "move": "self, state, sign", "moves": "self, state", "page_signs": "self", "text_signs": "self",
+        "marks": "self", "__len__": "self", "__contains__": "self, value", "__eq__": "self, other", "__repr__": "self"},
+    ("languages", "Language"): {
+        "__init__": "self, signs, states, member_states", "every": "signs", "of": "signs, *texts",
+        "move": "self, state, sign", "is_member": "self, state", "is_live": "self, state", "__len__": "self",
+        "__contains__": "self, value", "__eq__": "self, other", "__repr__": "self"},
+}
+PROPERTIES = {("readers", "Reader"): ["start"], ("languages", "Language"): ["signs", "is_empty"]}
+GENERATORS = [("pages", "steps"), ("languages", "members")]
+
+
+class InterfaceTest(unittest.TestCase):
+    def module(self, name):
+        return importlib.import_module("sealedslots." + name)
+
+    def test_functions(self):
+        for name, functions in FUNCTIONS.items():
+            defined = [node.name for node in ast.parse((PACKAGE / (name + ".py")).read_text()).body
+                       if isinstance(node, ast.FunctionDef)]
+            for function, parameters in functions.items():
+                self.assertIn(function, defined)
+                found = inspect.signature(getattr(self.module(name), function))
+                self.assertEqual(str(found), f"({parameters})", function)
+
+    def test_classes(self):
+        for (name, kind), methods in CLASSES.items():
+            made = getattr(self.module(name), kind)
+            self.assertEqual(made.__module__, "sealedslots." + name)
+            for method, parameters in methods.items():
+                self.assertIn(method, vars(made))
+                self.assertEqual(str(inspect.signature(getattr(made, method))), f"({parameters})", method)
+            for property_name in PROPERTIES[(name, kind)]:
+                self.assertIsInstance(vars(made)[property_name], property)
+
+    def test_generators(self):
+        for name, function in GENERATORS:
+            self.assertTrue(inspect.isgeneratorfunction(getattr(self.module(name), function)))
+        self.assertTrue(inspect.isgeneratorfunction(self.module("readers").Reader.moves))
+
+
+if __name__ == "__main__":
+    unittest.main()
