@@ -1,9 +1,9 @@
 """Languages: sets of texts that least machines with a few states decide."""
 
 from sealedslots.errors import InvalidCount, InvalidLanguage, InvalidWord, SignsDiffer
-from sealedslots.machines import least_machine, machine_of
+from sealedslots.machines import least_machine, machine_from, machine_of
 from sealedslots.readers import is_word
-from sealedslots.search import leading_into, least_way, reached
+from sealedslots.search import leading_into, least_way
 from sealedslots.values import are_states, check_state, has_length, is_below
 
 MAX_SIGNS = 4
@@ -138,11 +138,22 @@ def without(one, other):
 def _combined(one, other, belongs):
     """Return the language of the texts for which belongs(in the first, in the second) holds."""
     _check_signs_agree(one, other)
-    pairs = reached((0, 0), lambda pair: _next_pairs(one, other, pair))
-    numbers = {pair: number for number, pair in enumerate(pairs)}
-    states = [{sign: numbers[after] for sign, after in _next_pairs(one, other, pair)} for pair in pairs]
-    found = [numbers[(p, q)] for p, q in pairs if belongs(one.is_member(p), other.is_member(q))]
-    return Language(one.signs, states, found)
+
+    def is_in(pair):
+        first, second = pair
+        return belongs(one.is_member(first), other.is_member(second))
+
+    return language_from(one.signs, (0, 0), lambda pair: _next_pairs(one, other, pair), is_in)
+
+
+def language_from(signs, first, leads, is_in):
+    """Return the language of the texts that lead in a graph from the first node to one for which is_in(node) holds.
+
+    Raise TooLarge if there is no such Language; the graph may be of any size.
+    """
+    states, found = machine_from(first, leads, is_in)
+    least, chosen = least_machine(signs, states, found, Language.MAX_STATES)
+    return Language(signs, least, chosen)
 
 
 def _check_signs_agree(one, other):
@@ -198,9 +209,9 @@ def members(language, most):
 
 def _longer(language, level):
     """Return the beginnings (text, state) that are one sign longer than those of the level, in the order of strings."""
-    longer = []
-    for text, state in level:
-        for sign, after in _language_leads(language, state):
-            if language.is_live(after):
-                longer.append((text + sign, after))
-    return longer
+    return [(text + sign, after) for text, state in level for sign, after in live_leads(language, state)]
+
+
+def live_leads(language, state):
+    """Return (sign, next state) for each sign that leads from the state to a live one."""
+    return [(sign, after) for sign, after in _language_leads(language, state) if language.is_live(after)]

@@ -50,6 +50,17 @@ def _firsts(order, blocks):
     return firsts
 
 
+def machine_from(first, leads, is_in):
+    """Return the states and the member states of the machine that the graph from the first node is.
+
+    The member states are the nodes for which is_in(node) holds.
+    """
+    order = reached(first, leads)
+    numbers = {node: number for number, node in enumerate(order)}
+    states = [{sign: numbers[after] for sign, after in leads(node)} for node in order]
+    return (states, [numbers[node] for node in order if is_in(node)])
+
+
 def machine_of(signs, texts):
     """Return the states and the member states of a machine of exactly these texts."""
     states = [{}]

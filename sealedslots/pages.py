@@ -4,6 +4,7 @@ from sealedslots.errors import Unreadable
 from sealedslots.readers import Reader, check_row, check_word
 from sealedslots.search import leading_into, least_way, reached
 from sealedslots.values import check_state
+from sealedslots.ways import least_told
 
 
 def passed(reader, state, word):
@@ -60,29 +61,7 @@ def _last_state(first, walk):
 def least_page(reader, row):
     """Return the least page whose reading is the row, None if there is none."""
     check_row(row)
-    ends = reader.ends()
-
-    # A node is a state with the number of names of the row that are told on the way to it.
-    def leads(node):
-        return _moves_along(reader, row, node)
-
-    def is_goal(node):
-        state, many = node
-        return many == len(row) and state in ends
-
-    return least_way((reader.start, 0), leads, is_goal)
-
-
-def _moves_along(reader, row, node):
-    """Return (sign, next node) for each move from the node that tells nothing, or the next name of the row."""
-    state, many = node
-    found = []
-    for sign, after, told in reader.moves(state):
-        if told is None:
-            found.append((sign, (after, many)))
-        elif many < len(row) and told == row[many]:
-            found.append((sign, (after, many + 1)))
-    return found
+    return least_told(reader, reader.start, row, reader.ends())
 
 
 def shortest_page(reader):

@@ -48,11 +48,53 @@ def least_way(first, leads, is_goal):
 
 def leading_into(goals, many, leads):
     """Return the sorted list of those of the nodes 0, 1 .. from which some word leads to a goal."""
-    found = {node: True for node in goals}
-    before = -1
-    while len(found) > before:
-        before = len(found)
-        for node in range(many):
-            if any([after in found for _, after in leads(node)]):
-                found[node] = True
-    return sorted(found)
+    return sorted(distances_to(goals, {node: leads(node) for node in range(many)}))
+
+
+def graph_from(firsts, leads):
+    """Return the dict from all nodes to which words lead from the first nodes to their lists of leads."""
+    graph = {}
+    queue = list(firsts)
+    at = 0
+    while at < len(queue):
+        node = queue[at]
+        if node not in graph:
+            graph[node] = leads(node)
+            queue.extend([after for _, after in graph[node]])
+        at += 1
+    return graph
+
+
+def distances_to(goals, graph):
+    """Return the dict from all nodes of the graph from which words lead to goals to the least lengths of such words."""
+    ahead = {}
+    for node, ways in graph.items():
+        for _, after in ways:
+            ahead.setdefault(after, []).append(node)
+    distances = {goal: 0 for goal in goals}
+    queue = list(goals)
+    at = 0
+    while at < len(queue):
+        node = queue[at]
+        for before in ahead.get(node, []):
+            if before not in distances:
+                distances[before] = distances[node] + 1
+                queue.append(before)
+        at += 1
+    return distances
+
+
+def nearest_way(graph, distances, node):
+    """Return the least word that leads from the node to a goal of the distances, None if there is none."""
+    if node not in distances:
+        return None
+    signs = []
+    while distances[node] > 0:
+        sign, node = _first_nearer(graph[node], distances, distances[node])
+        signs.append(sign)
+    return "".join(signs)
+
+
+def _first_nearer(ways, distances, many):
+    """Return the first of the ways that leads to a node with a distance below so many; there is one."""
+    return [(sign, after) for sign, after in ways if distances.get(after, many) < many][0]

@@ -1,6 +1,6 @@
 """Tests of any values for numbers and for sets of states."""
 
-from sealedslots.errors import InvalidState
+from sealedslots.errors import InvalidState, InvalidStates
 
 
 def is_integer(value):
@@ -27,6 +27,17 @@ def are_states(value, many):
     if not all([is_below(state, many) for state in value]):
         return False
     return len(set(value)) == len(value)
+
+
+def check_states(value, many):
+    """Raise InvalidStates if the value is not a list or a tuple of different states of so many."""
+    if not are_states(value, many):
+        raise InvalidStates(value)
+
+
+def is_state_set(value, many):
+    """Whether the value is a set of states, of so many, in the form of a sorted tuple."""
+    return isinstance(value, tuple) and are_states(value, many) and list(value) == sorted(value)
 
 
 def has_length(value, least, most):

@@ -14,6 +14,12 @@ FUNCTIONS = {
               "least_page": "reader, row", "shortest_page": "reader", "useful_states": "reader", "trimmed": "reader"},
     "languages": {"both": "one, other", "either": "one, other", "without": "one, other", "first_outside": "one, other",
                   "is_within": "one, other", "least_text": "language", "members": "language, most"},
+    "doors": {"silent": "reader, states", "step": "reader, states, sign", "last_states": "reader, state, text",
+              "is_writable": "door, text"},
+    "covers": {"find_unwritable": "door", "is_wide": "door", "cover": "door", "is_cover": "door, value",
+               "writable_texts": "reader, state, behind, signs", "least_behind": "reader, state, language"},
+    "writings": {"least_word": "reader, state, row, target", "least_writing": "door, text"},
+    "sealing": {"sets_ahead": "template", "is_sealed": "template", "refusal": "template", "is_refusal": "template, value"},
 }
 CLASSES = {
     ("readers", "Reader"): {
@@ -24,8 +30,13 @@ CLASSES = {
         "__init__": "self, signs, states, member_states", "every": "signs", "of": "signs, *texts",
         "move": "self, state, sign", "is_member": "self, state", "is_live": "self, state", "__len__": "self",
         "__contains__": "self, value", "__eq__": "self, other", "__repr__": "self"},
+    ("doors", "Door"): {"__init__": "self, reader, state, behind, language", "__eq__": "self, other"},
+    ("templates", "Template"): {
+        "__init__": "self, reader, parts", "parts": "self", "slots": "self", "language_of": "self, name",
+        "row": "self, texts", "__len__": "self", "__eq__": "self, other"},
 }
-PROPERTIES = {("readers", "Reader"): ["start"], ("languages", "Language"): ["signs", "is_empty"]}
+PROPERTIES = {("readers", "Reader"): ["start"], ("languages", "Language"): ["signs", "is_empty"],
+              ("doors", "Door"): ["reader", "state", "behind", "language"], ("templates", "Template"): ["reader"]}
 GENERATORS = [("pages", "steps"), ("languages", "members")]
 
 

@@ -1,0 +1,87 @@
+"""Sets of states of a reader as integers: state q is in the set if the bit 1 << q is one.
+
+So a set is a key of dicts, one operation unites two of them, and a set is never below one that lies inside it.
+"""
+
+from sealedslots.search import reached
+
+
+def bits_of(states):
+    """Return the set of the states."""
+    bits = 0
+    for state in states:
+        bits |= 1 << state
+    return bits
+
+
+def states_of(bits):
+    """Return the sorted tuple of the states of the set."""
+    return tuple([state for state in range(bits.bit_length()) if bits >> state & 1])
+
+
+def has_inside(sets, bits):
+    """Whether one of the sets lies inside the set."""
+    for inner in sets:
+        if inner & bits == inner:
+            return True
+    return False
+
+
+def least_sets(sets):
+    """Return those of the sets inside which no other one lies, each once, in ascending order."""
+    least = []
+    for bits in sorted(sets):
+        if not has_inside(least, bits):
+            least.append(bits)
+    return least
+
+
+def _joined(table, bits):
+    """Return the union of the sets to which the table leads from the states of the set."""
+    found = 0
+    for state, more in enumerate(table):
+        if bits >> state & 1:
+            found |= more
+    return found
+
+
+def _silent_table(reader):
+    """Return, for each state of the reader, the set of the states to which silent moves lead from it."""
+    def leads(state):
+        return [(sign, after) for sign, after, told in reader.moves(state) if told is None]
+
+    return [bits_of(reached(state, leads)) for state in range(len(reader))]
+
+
+def _told_tables(reader, silent_table):
+    """Return a dict from what is told to the table of the states behind moves that tell it, and silent moves then."""
+    tables = {}
+    for state in range(len(reader)):
+        for _, after, told in reader.moves(state):
+            if told is not None:
+                table = tables.setdefault(told, [0] * len(reader))
+                table[state] |= silent_table[after]
+    return tables
+
+
+class Sets:
+    """The ways from sets of states of a reader to others."""
+
+    def __init__(self, reader):
+        self._silent_table = _silent_table(reader)
+        self._told_tables = _told_tables(reader, self._silent_table)
+
+    def silent(self, bits):
+        """Return the set of the states to which silent moves, perhaps none, lead from the set."""
+        return _joined(self._silent_table, bits)
+
+    def step(self, bits, told):
+        """Return the set of the states behind the moves from the set that tell this, and silent moves then."""
+        return _joined(self._told_tables.get(told, []), bits)
+
+    def last(self, state, row):
+        """Return the set of the states behind the words that tell exactly the row, from the state."""
+        bits = self._silent_table[state]
+        for told in row:
+            bits = self.step(bits, told)
+        return bits
