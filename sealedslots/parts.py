@@ -76,3 +76,14 @@ def piece_end(reader, state, piece):
             return None
         state = move[0]
     return state
+
+
+def fixed_lasts(reader, sets, part):
+    """Return, for each state, the set of the states behind the words that fit the piece or the said part from it.
+
+    The sets are integers; sets are those of the reader.
+    """
+    if part[0] == "said":
+        return sets.lasts(part[1])
+    lasts = [piece_end(reader, state, part) for state in range(len(reader))]
+    return [0 if last is None else 1 << last for last in lasts]

@@ -98,3 +98,18 @@ def nearest_way(graph, distances, node):
 def _first_nearer(ways, distances, many):
     """Return the first of the ways that leads to a node with a distance below so many; there is one."""
     return [(sign, after) for sign, after in ways if distances.get(after, many) < many][0]
+
+
+def nearest_word(graph, distances, node):
+    """Return what nearest_way returns, where several ways from a node may have the same sign."""
+    if node not in distances:
+        return None
+    signs = []
+    nodes = [node]
+    # All nodes to which the same least word leads are kept: any of them may go on with the least sign.
+    for many in reversed(range(distances[node])):
+        ways = [way for here in nodes for way in graph[here] if distances.get(way[1]) == many]
+        least = min([sign for sign, _ in ways])
+        nodes = list({after: True for sign, after in ways if sign == least})
+        signs.append(least)
+    return "".join(signs)

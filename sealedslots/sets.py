@@ -36,7 +36,7 @@ def least_sets(sets):
     return least
 
 
-def _joined(table, bits):
+def joined(table, bits):
     """Return the union of the sets to which the table leads from the states of the set."""
     found = 0
     for state, more in enumerate(table):
@@ -64,6 +64,48 @@ def _told_tables(reader, silent_table):
     return tables
 
 
+def turned(table):
+    """Return, for each state, the set of the states that the table leads to a set with it."""
+    return [bits_of([state for state, bits in enumerate(table) if bits >> after & 1]) for after in range(len(table))]
+
+
+def unions(table):
+    """Return, for each set of states, the union of the sets to which the table leads from its states."""
+    found = [0]
+    for more in table:
+        found = found + [bits | more for bits in found]
+    return found
+
+
+def joined_inside(values):
+    """Return, for each set of states, the union of the values of all sets inside it; values has one for each set."""
+    found = list(values)
+    bit = 1
+    while bit < len(found):
+        # Each round adds what the sets without this state have, those of the earlier rounds included.
+        for bits in range(len(found)):
+            if bits & bit:
+                found[bits] |= found[bits ^ bit]
+        bit *= 2
+    return found
+
+
+def inside_marks(sets, many):
+    """Return, for each set of so many states, 1 if one of the sets lies inside it, otherwise 0.
+
+    It takes the same time for any number of sets, and then one look for each question.
+    """
+    marks = [0] * (1 << many)
+    for bits in sets:
+        marks[bits] = 1
+    return joined_inside(marks)
+
+
+def ahead_of(table, behind):
+    """Return the set of the states that the table leads to a set that shares a state with the set behind."""
+    return bits_of([state for state, bits in enumerate(table) if bits & behind])
+
+
 class Sets:
     """The ways from sets of states of a reader to others."""
 
@@ -73,11 +115,19 @@ class Sets:
 
     def silent(self, bits):
         """Return the set of the states to which silent moves, perhaps none, lead from the set."""
-        return _joined(self._silent_table, bits)
+        return joined(self._silent_table, bits)
 
     def step(self, bits, told):
         """Return the set of the states behind the moves from the set that tell this, and silent moves then."""
-        return _joined(self._told_tables.get(told, []), bits)
+        return joined(self._told_tables.get(told, []), bits)
+
+    def step_unions(self, told):
+        """Return, for each set of states, the set that `step` leads to: worth it where most sets are asked for."""
+        return unions(self._told_tables.get(told, [0] * len(self._silent_table)))
+
+    def lasts(self, row):
+        """Return, for each state, the set of the states behind the words that tell exactly the row from it."""
+        return [self.last(state, row) for state in range(len(self._silent_table))]
 
     def last(self, state, row):
         """Return the set of the states behind the words that tell exactly the row, from the state."""

@@ -60,7 +60,7 @@ class Template:
 
     def row(self, texts):
         """Return what all parts tell, with the texts in the slots."""
-        self._check_texts(texts)
+        self.check_texts(texts)
         row = []
         for part in self._parts:
             if part[0] == "slot":
@@ -69,7 +69,7 @@ class Template:
                 row.extend(told_marks(part))
         return tuple(row)
 
-    def _check_texts(self, texts):
+    def check_texts(self, texts):
         """Raise InvalidTexts if the texts are not a dict from exactly the names of the slots to texts for them."""
         if not isinstance(texts, dict) or len(texts) != len(self._languages):
             raise InvalidTexts("names", None)

@@ -1,6 +1,6 @@
 """Tests of any values for numbers and for sets of states."""
 
-from sealedslots.errors import InvalidState, InvalidStates
+from sealedslots.errors import InvalidLookAhead, InvalidState, InvalidStates
 
 
 def is_integer(value):
@@ -18,6 +18,12 @@ def check_state(value, many):
     """Raise InvalidState if the value is not a state of something with so many states."""
     if not is_below(value, many):
         raise InvalidState(value)
+
+
+def check_look_ahead(value, most):
+    """Raise InvalidLookAhead if the value is not a count up to the most."""
+    if not is_below(value, most + 1):
+        raise InvalidLookAhead(value)
 
 
 def are_states(value, many):

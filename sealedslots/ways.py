@@ -1,6 +1,6 @@
 """Least words that tell rows."""
 
-from sealedslots.search import least_way
+from sealedslots.search import least_way, reached
 
 
 def least_told(reader, state, row, targets):
@@ -26,3 +26,9 @@ def _moves_along(reader, row, node):
         elif many < len(row) and told == row[many]:
             found.append((sign, (after, many + 1)))
     return found
+
+
+def lasts_by_words(reader, state, row):
+    """Return the list of the states behind the words that tell exactly the row, in the order of the least words."""
+    nodes = reached((state, 0), lambda node: _moves_along(reader, row, node))
+    return [last for last, many in nodes if many == len(row)]

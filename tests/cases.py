@@ -32,6 +32,11 @@ def no_sets(many):
         {0, 1}, range(2)]
 
 
+def no_look_aheads(most):
+    """Values that are no integer from 0 to the most."""
+    return OTHER_VALUES + [most + 1, most + 2, -2, "0", "1", str(most), "", [0], (0,), {0: 1}, {0}, [most]]
+
+
 class Case(unittest.TestCase):
     def fails(self, error, value, call):
         """The call raises the error, which has this very value."""

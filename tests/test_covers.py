@@ -9,28 +9,9 @@ from sealedslots.doors import Door, is_writable
 from sealedslots.languages import Language
 from sealedslots.readers import Reader
 from tests.cases import made, subsets
-from tests.samples import OTHER_VALUES, accepts, class_count, random_machines, random_readers, words
+from tests.door_samples import door_of, small_doors
+from tests.samples import OTHER_VALUES, accepts, random_readers, words
 from tests.slow import first_unwritable, least_numbers, met_pairs, short_unwritable, silent_set, step_set
-
-NONE, EMPTY, EVERY = ("ab", [{"a": 0, "b": 0}], []), ("ab", [{"a": 1, "b": 1}, {"a": 1, "b": 1}], [0]), (
-    "ab", [{"a": 0, "b": 0}], [0])
-ONE = ("ab", [{"a": 1, "b": 2}, {"a": 2, "b": 2}, {"a": 2, "b": 2}], [1])
-
-
-def small_doors(seed, count, **more):
-    """Small readers, each with a few states behind and languages: (spec, state, behind, machine)."""
-    rng = random.Random(seed)
-    machines = [NONE, EMPTY, EVERY, ONE] + [machine for machine in random_machines(seed, 60) if class_count(machine) <= 6]
-    for spec in random_readers(seed, count, **more):
-        many = len(spec[0])
-        for machine in rng.sample(machines, 6):
-            behind = [state for state in range(many) if rng.random() < 0.6]
-            rng.shuffle(behind)
-            yield spec, rng.randrange(many), behind, machine
-
-
-def door_of(spec, state, behind, machine):
-    return Door(made(spec), state, behind, Language(*machine))
 
 
 def slow_is_cover(spec, state, behind, machine, value):

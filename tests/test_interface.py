@@ -20,6 +20,15 @@ FUNCTIONS = {
                "writable_texts": "reader, state, behind, signs", "least_behind": "reader, state, language"},
     "writings": {"least_word": "reader, state, row, target", "least_writing": "door, text"},
     "sealing": {"sets_ahead": "template", "is_sealed": "template", "refusal": "template", "is_refusal": "template, value"},
+    "filling": {"is_filled": "template, texts, page", "texts_in": "template, page", "least_filling": "template, texts",
+                "plain_filling": "template, texts", "find_unfillable": "template", "fill_cover": "template",
+                "is_fill_cover": "template, value"},
+    "places": {"following": "door, look_ahead, place, sign", "met_places": "door, look_ahead"},
+    "games": {"safe_places": "door, look_ahead", "choices": "door, look_ahead", "is_choices": "door, look_ahead, value",
+              "fall": "door, look_ahead", "is_fall": "door, look_ahead, value", "is_written_with": "door, look_ahead",
+              "least_look_ahead": "door"},
+    "vectors": {"sets_under": "template, vector", "is_sealed_under": "template, vector", "sealing_vectors": "template",
+                "failing_vectors": "template"},
 }
 CLASSES = {
     ("readers", "Reader"): {
