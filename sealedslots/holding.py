@@ -3,6 +3,7 @@
 A hold is a tuple (language state, held text): a place without its state. Sets of states are integers, as in `sets`.
 """
 
+from sealedslots.languages import live_move
 from sealedslots.search import graph_from
 from sealedslots.sets import Sets, turned, unions
 
@@ -10,8 +11,8 @@ from sealedslots.sets import Sets, turned, unions
 def hold_behind(language, look_ahead, hold, sign):
     """Return (sign to be written, or None; hold) behind the hold by the sign, None if it leads to no live state."""
     at, held = hold
-    after = language.move(at, sign)
-    if after is None or not language.is_live(after):
+    after = live_move(language, at, sign)
+    if after is None:
         return None
     arrived = held + sign
     if len(held) < look_ahead:

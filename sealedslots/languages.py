@@ -212,6 +212,14 @@ def _longer(language, level):
     return [(text + sign, after) for text, state in level for sign, after in live_leads(language, state)]
 
 
+def live_move(language, state, sign):
+    """Return the next state by any sign, None if the sign is not one of the language's, or the state is not live."""
+    after = language.move(state, sign)
+    if after is None or not language.is_live(after):
+        return None
+    return after
+
+
 def live_leads(language, state):
     """Return (sign, next state) for each sign that leads from the state to a live one."""
     return [(sign, after) for sign, after in _language_leads(language, state) if language.is_live(after)]

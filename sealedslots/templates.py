@@ -3,7 +3,7 @@
 from sealedslots.errors import InvalidTemplate, InvalidTexts, UnknownSlot
 from sealedslots.parts import is_part, lacks_mark, told_marks
 from sealedslots.readers import is_name
-from sealedslots.values import has_length
+from sealedslots.values import has_keys, has_length
 
 MAX_PARTS = 12
 MAX_SLOTS = 4
@@ -71,9 +71,7 @@ class Template:
 
     def check_texts(self, texts):
         """Raise InvalidTexts if the texts are not a dict from exactly the names of the slots to texts for them."""
-        if not isinstance(texts, dict) or len(texts) != len(self._languages):
-            raise InvalidTexts("names", None)
-        if not all([name in texts for name in self._languages]):
+        if not has_keys(texts, self._languages):
             raise InvalidTexts("names", None)
         for name, language in self._languages.items():
             if texts[name] not in language:

@@ -49,3 +49,8 @@ def is_state_set(value, many):
 def has_length(value, least, most):
     """Whether the value is a list or a tuple that has from least to most items."""
     return isinstance(value, (list, tuple)) and least <= len(value) <= most
+
+
+def has_keys(value, names):
+    """Whether the value is a dict from exactly these names."""
+    return isinstance(value, dict) and len(value) == len(names) and all([name in value for name in names])

@@ -29,6 +29,13 @@ FUNCTIONS = {
               "least_look_ahead": "door"},
     "vectors": {"sets_under": "template, vector", "is_sealed_under": "template, vector", "sealing_vectors": "template",
                 "failing_vectors": "template"},
+    "given": {"failure": "door, writer, text", "find_failing": "door, writer", "is_faithful": "door, writer",
+              "end_states": "door, writer"},
+    "lags": {"lags": "door, writer", "is_lags": "door, writer, value", "greatest_lag": "door, writer"},
+    "quoting": {"goes_raw": "door, signs", "raw_sets": "door", "raw_refusals": "door", "quotes": "door, writer",
+                "quote_refusal": "door, writer", "is_quote_refusal": "door, writer, value"},
+    "regimes": {"sets_with": "template, regimes", "is_sealed_with": "template, regimes",
+                "filling_with": "template, regimes, texts"},
 }
 CLASSES = {
     ("readers", "Reader"): {
@@ -43,9 +50,18 @@ CLASSES = {
     ("templates", "Template"): {
         "__init__": "self, reader, parts", "parts": "self", "slots": "self", "language_of": "self, name",
         "row": "self, texts", "__len__": "self", "__eq__": "self, other"},
+    ("writers", "SlotWriter"): {"__init__": "self, door, look_ahead=4", "feed": "self, sign", "finish": "self", "clone": "self"},
+    ("writers", "PageWriter"): {"__init__": "self, template, vector=None", "feed": "self, sign", "end_slot": "self",
+                                "texts": "self", "clone": "self"},
+    ("given", "GivenWriter"): {
+        "__init__": "self, opening, moves, endings, *, states=1", "raw": "signs", "table": "entries",
+        "move": "self, state, sign", "ending": "self, state", "output": "self, text", "quoted": "self, x, y",
+        "__len__": "self", "__eq__": "self, other"},
 }
 PROPERTIES = {("readers", "Reader"): ["start"], ("languages", "Language"): ["signs", "is_empty"],
-              ("doors", "Door"): ["reader", "state", "behind", "language"], ("templates", "Template"): ["reader"]}
+              ("doors", "Door"): ["reader", "state", "behind", "language"], ("templates", "Template"): ["reader"],
+              ("writers", "SlotWriter"): ["text", "held", "page", "state", "is_finished"],
+              ("writers", "PageWriter"): ["slot", "page"], ("given", "GivenWriter"): ["opening"]}
 GENERATORS = [("pages", "steps"), ("languages", "members")]
 
 
