@@ -81,9 +81,10 @@ def _size(part_names):
 
 def _ways(reader, parts, node):
     """Return (sign, node) for each move that goes on with the parts."""
+    state, _, _ = node
     found = []
     for index, much in _open_places(parts, node):
-        for sign, after, told in reader.moves(node[0]):
+        for sign, after, told in reader.moves(state):
             more = None if index == len(parts) else _much_behind(parts[index], much, sign, told)
             if more is not None:
                 found.append((sign, (after, index, more)))

@@ -3,6 +3,7 @@
 import random
 
 from sealedslots.languages import Language
+from tests.door_samples import machine_of_texts
 from tests.samples import accepts, class_count, random_machines, random_readers, words
 
 MARKS = ["go", "stop"]
@@ -22,6 +23,14 @@ def random_piece(rng, spec):
     return ("piece", tuple(moves))
 
 
+def random_separator(rng, spec):
+    """A part that tells a mark: said, or a piece of one move of the reader."""
+    known = [(sign, told) for moves in spec[0] for sign, (_, told) in moves.items() if told in MARKS]
+    if known and rng.random() < 0.4:
+        return ("piece", (rng.choice(known),))
+    return ("said", (rng.choice(MARKS),))
+
+
 def random_parts(rng, spec, machines):
     """Parts that make a template, and the machines of their slots."""
     parts, chosen = [], {}
@@ -29,7 +38,7 @@ def random_parts(rng, spec, machines):
         kind = rng.choice(["piece", "said", "slot"])
         if kind == "slot" and len(chosen) < 3:
             if chosen:
-                parts.append(("said", (rng.choice(MARKS),)))
+                parts.append(random_separator(rng, spec))
             name = "wxyz"[len(chosen)]
             chosen[name] = rng.choice(machines)
             parts.append(("slot", name, Language(*chosen[name])))
@@ -56,3 +65,25 @@ def random_templates(seed, count, **more):
         if rng.random() < 0.85:
             spec = (spec[0], list(range(len(spec[0])))[rng.randint(0, 1):], spec[2])
         yield (spec,) + random_parts(rng, spec, machines)
+
+
+# The text of x is written without a look-ahead into 6, from where the text of y needs one; or the other way round.
+STATES = [{"p": (1, "a"), "q": (2, "a"), "r": (3, "a")}, {"p": (5, "a")}, {"p": (5, "b")}, {"p": (6, "a"), "q": (6, "b")},
+          {"p": (11, "b")}, {"r": (7, "go")}, {"r": (8, "go")}, {"p": (9, "a")}, {"p": (10, "a"), "q": (4, "a")},
+          {"p": (11, "a"), "q": (11, "b")}, {"p": (11, "a")}, {}]
+BOTH = ["aa", "ab"]
+
+
+def other_templates(seed, count):
+    """Templates like the one above, with some other moves and texts: (spec, parts, machines)."""
+    rng = random.Random(seed)
+    for _ in range(count):
+        states = [dict(moves) for moves in STATES]
+        for _ in range(rng.choice([0, 1, 1, 2, 3])):
+            states[rng.randrange(12)][rng.choice("pqrstu")] = rng.randrange(12), rng.choice([None, "a", "a", "b", "b", "go"])
+        parts, machines = [], {}
+        for name in rng.choice(["xy", "xy", "xy", "yx", "x"]):
+            tree, ends = machine_of_texts(rng.choice([BOTH, BOTH, BOTH, BOTH, ["aa"], ["aa", "ab", "a"], ["ab", ""]]))
+            machines[name] = ("ab", tree, ends)
+            parts += [("slot", name, Language("ab", tree, ends)), ("said", ("go",))]
+        yield (states, [5, 6, 9, 11], rng.choice([0, 0, 0, 5])), parts[:-1], machines

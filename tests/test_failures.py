@@ -128,6 +128,18 @@ class FindFailingTest(Case):
         self.assertIsNone(find_failing(Door(READER, 0, [0], Language.of("ab", "")), GivenWriter.raw("")))
 
 
+    def test_marks_are_no_texts(self):
+        # A mark is not told for two signs, even if its name consists of them.
+        reader = Reader([{"p": (0, "g"), "q": (0, "o"), "s": (0, "go")}])
+        door = Door(reader, 0, [0], Language.of("go", "go"))
+        marks = GivenWriter.table({"g": "", "o": "s"})
+        self.assertEqual((find_failing(door, marks), failure(door, marks, "go")), ("go", ("mark", 0)))
+        self.assertIs(is_faithful(door, GivenWriter.table({"g": "p", "o": "q"})), True)
+        for writer in [GivenWriter("s", {(0, "g"): (0, ""), (0, "o"): (0, "")}, {0: ""}),
+                       GivenWriter("", {(0, "g"): (0, ""), (0, "o"): (0, "")}, {0: "s"})]:
+            self.assertEqual((find_failing(door, writer), failure(door, writer, "go")), ("go", ("mark", 0)))
+
+
 class EndStatesTest(Case):
     def test_slow_end_states(self):
         several, refused = 0, 0

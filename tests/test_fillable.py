@@ -89,6 +89,15 @@ class FindUnfillableTest(unittest.TestCase):
         self.assertIsNone(find_unfillable(full))
         self.assertEqual(fill_cover(full), [(0, 0, (0,)), (1, 0, (1,)), (2, 0, (2,)), (3, 0, (3,))])
 
+    def test_silent_moves_ahead_of_a_slot(self):
+        # Behind the piece, a is told only after a silent move, which belongs to the text of y.
+        reader = Reader([{"p": (0, "a"), "q": (1, "go")}, {"r": (2, None)}, {"p": (2, "a")}], [1, 2])
+        template = Template(reader, [slot("x", Language.every("a")), ("piece", (("q", "go"),)), slot("y", Language.every("a"))])
+        self.assertIsNone(find_unfillable(template))
+        self.assertEqual(fill_cover(template), [(0, 0, (0,)), (1, 0, (2,))])
+        self.assertEqual(find_unfillable(Template(reader, [("piece", (("q", "go"),)), slot("y")])), {"y": "b"})
+        self.assertIsNone(find_unfillable(Template(reader, [("piece", (("q", "go"),)), slot("y", Language.every("a"))])))
+
     def test_long_least_texts(self):
         ring = Reader([{"p": ((state + 1) % 11, "a"), "q": (11, "go")} for state in range(11)] + [{"p": (11, "a")}], list(range(12)))
         cut = Reader([{"p": ((state + 1) % 11, "a"), **({} if state == 10 else {"q": (11, "go")})} for state in range(11)] + [{}],

@@ -187,6 +187,21 @@ class ExamplesTest(Case):
         self.assertEqual(texts_in(template, "qpq"), {"x": "a"})
         self.assertIsNone(texts_in(template, "qppq"))
 
+    def test_the_least_word_may_belong_to_several_parts(self):
+        # Behind p, the said part may go on, or the piece is read already: only then b may follow, which is less than p.
+        reader = Reader([{"p": (1, None)}, {"p": (2, None), "b": (3, None)}, {"x": (4, "go")}, {"x": (4, "go")}, {}], [4])
+        template = Template(reader, [("said", ()), ("piece", (("p", None),)), GO])
+        self.assertEqual([page for page in words("bpx", 4) if texts_in(template, page) is not None], ["pbx", "ppx"])
+        self.assertEqual(least_filling(template, {}), "pbx")
+
+    def test_pieces_have_no_other_signs(self):
+        reader = Reader([{"p": (1, None)}, {"r": (2, None)}, {"q": (3, "go")}, {}], [3])
+        pieces = [("piece", (("p", None),)), ("piece", (("q", "go"),))]
+        self.assertIsNone(least_filling(Template(reader, pieces), {}))
+        self.assertIsNone(least_filling(Template(reader, [("piece", (("p", None), ("q", "go")))]), {}))
+        self.assertIsNone(texts_in(Template(reader, pieces), "prq"))
+        self.assertEqual(least_filling(Template(reader, [pieces[0], ("said", ()), pieces[1]]), {}), "prq")
+
     def test_templates_without_slots(self):
         template = Template(READER, [("said", ("begin",)), END])
         self.assertEqual(texts_in(template, "qq"), {})

@@ -147,6 +147,16 @@ class IsLagsTest(Case):
             self.refused(self.lags, DOOR, GivenWriter(opening, moves, {0: "", 2: "q"}, states=3))
         self.accepted(self.lags, DOOR, GivenWriter("rr", moves, {0: "", 2: "q"}, states=3))
 
+    def test_one_word_is_empty(self):
+        # Also at a triple that no text leads to, and from which all goes on: what is told already is not owed.
+        reader = Reader([{"p": (0, "a"), "q": (0, "b")}, {"p": (1, "a"), "q": (1, "b")}])
+        door = Door(reader, 0, [0, 1], Language.of("ab", "ab"))
+        found = lags(door, LATE)
+        self.assertEqual(found, {(0, 0, 0): ("", ""), (1, 1, 0): ("a", ""), (3, 2, 0): ("b", "")})
+        self.accepted({**found, (1, 1, 1): ("a", ""), (3, 2, 1): ("b", "")}, door)
+        for lag in [("aa", "a"), ("a", "b"), ("ba", "b")]:
+            self.refused({**found, (1, 1, 1): lag, (3, 2, 1): ("b", "")}, door)
+
     def test_wrong_forms(self):
         for value in OTHER_VALUES + [list(self.lags.items()), list(self.lags), tuple(self.lags.items()), "", 0]:
             self.refused(value)

@@ -1,6 +1,7 @@
 """[22] Writers of the pages of templates, part by part."""
 
 import itertools
+import unittest
 
 from sealedslots.doors import Door
 from sealedslots.errors import Finished, InvalidVector, InvalidWord, NotMember, NotSealed
@@ -16,8 +17,7 @@ from tests.cases import Case, made
 from tests.door_samples import machine_of_texts
 from tests.samples import OTHER_VALUES
 from tests.slow_fill import texts_by_size
-from tests.template_samples import random_templates
-from tests.test_vectors import other_templates
+from tests.template_samples import other_templates, random_templates
 
 READER = Reader([{"q": (1, "begin")}, {"p": (1, "a"), "q": (2, "end"), "r": (3, None)}, {}, {"q": (1, "b"), "r": (1, "a")}], [2])
 BEGIN, END, GO = ("piece", (("q", "begin"),)), ("piece", (("q", "end"),)), ("said", ("go",))
@@ -229,3 +229,7 @@ class CloneTest(Case):
 
     def do(self, writer, event):
         return writer.end_slot() if event == "." else writer.feed(event)
+
+
+if __name__ == "__main__":
+    unittest.main()

@@ -163,6 +163,11 @@ class ExamplesTest(Case):
         self.assertEqual(found, [(0,), (0,), (1,), (1,)])
         found.clear()
         self.assertEqual(sets_with(template, {"x": plain, "y": 0}), [(0,), (0,), (1,), (1,)])
+        regimes, texts = {"y": silent, "x": plain}, {"y": "a", "x": ""}
+        self.assertEqual([filling_with(template, regimes, texts) for _ in range(2)], ["rsspss"] * 2)
+        self.assertEqual((list(regimes.items()), list(texts.items())), ([("y", silent), ("x", plain)], [("y", "a"), ("x", "")]))
+        self.assertEqual((silent, plain), (GivenWriter("s", {(0, "a"): (0, "sp"), (0, "b"): (0, "q")}, {0: "ss"}),
+                                           GivenWriter.table({"a": "p", "b": "q"})))
 
 
 class ErrorsTest(Case):

@@ -1,6 +1,7 @@
 """[22] Writers of doors: compared with slow writers that move to the safe place whose word is least."""
 
 import random
+import unittest
 
 from sealedslots.doors import Door
 from sealedslots.errors import Finished, InvalidLookAhead, InvalidWord, NotMember, NotWritten
@@ -237,3 +238,7 @@ class ErrorsTest(Case):
             one.feed(sign)
         self.assertEqual(self.state_of(other), ("", "", "", 0, False))
         self.assertEqual((FOURTH.state, FOURTH.behind), (0, (7,)))
+
+
+if __name__ == "__main__":
+    unittest.main()

@@ -1,7 +1,6 @@
 """[21] Sets ahead under vectors, sealing and failing vectors: compared with all vectors."""
 
 import itertools
-import random
 import unittest
 
 from sealedslots.errors import InvalidVector
@@ -14,35 +13,13 @@ from tests.cases import Case, made
 from tests.door_samples import A_THEN_B, machine_of_texts
 from tests.samples import OTHER_VALUES
 from tests.slow_games import sets_under as slow_sets_under
-from tests.template_samples import random_templates
+from tests.template_samples import BOTH, STATES, other_templates, random_templates
 
 GO = ("said", ("go",))
 
 
 def slot(name, language):
     return ("slot", name, language)
-
-
-# The text of x is written without a look-ahead into 6, from where the text of y needs one; or the other way round.
-STATES = [{"p": (1, "a"), "q": (2, "a"), "r": (3, "a")}, {"p": (5, "a")}, {"p": (5, "b")}, {"p": (6, "a"), "q": (6, "b")},
-          {"p": (11, "b")}, {"r": (7, "go")}, {"r": (8, "go")}, {"p": (9, "a")}, {"p": (10, "a"), "q": (4, "a")},
-          {"p": (11, "a"), "q": (11, "b")}, {"p": (11, "a")}, {}]
-BOTH = ["aa", "ab"]
-
-
-def other_templates(seed, count):
-    """Templates like the one above, with some other moves and texts: (spec, parts, machines)."""
-    rng = random.Random(seed)
-    for _ in range(count):
-        states = [dict(moves) for moves in STATES]
-        for _ in range(rng.choice([0, 1, 1, 2, 3])):
-            states[rng.randrange(12)][rng.choice("pqrstu")] = rng.randrange(12), rng.choice([None, "a", "a", "b", "b", "go"])
-        parts, machines = [], {}
-        for name in rng.choice(["xy", "xy", "xy", "yx", "x"]):
-            tree, ends = machine_of_texts(rng.choice([BOTH, BOTH, BOTH, BOTH, ["aa"], ["aa", "ab", "a"], ["ab", ""]]))
-            machines[name] = ("ab", tree, ends)
-            parts += [slot(name, Language("ab", tree, ends)), GO]
-        yield (states, [5, 6, 9, 11], rng.choice([0, 0, 0, 5])), parts[:-1], machines
 
 
 class SlowTest(Case):
