@@ -16,8 +16,9 @@ from sealedslots.written import written_words
 
 def is_filled(template, texts, page):
     """Whether the page fills the template with these texts."""
-    template.check_texts(texts)
+    # The page is checked first: no other error is named for it.
     check_word(page)
+    template.check_texts(texts)
     return is_divisible(template, texts, page)
 
 

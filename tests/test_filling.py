@@ -241,13 +241,18 @@ class ExamplesTest(Case):
         self.assertEqual(list(texts_in(template, page).items()), [("z", ""), ("b", "bb"), ("c", "ab"), ("a", "b")])
 
 
+OTHER_NAMES = OTHER_VALUES + ["", "x", ["x"], {"x"}, {"y": ""}, {"x": "", "y": ""}, {"X": ""}, {None: ""}, {("x",): ""},
+                              [("x", "")]]
+NO_TEXTS = [value for value in OTHER_VALUES + ["z", "abd", ["a", "b"], 0] if value != ""]
+
+
 class ErrorsTest(Case):
     def setUp(self):
         self.template = Template(READER, [BEGIN, slot("x"), END])
         self.refused = Template(READER, [BEGIN, slot("x", Language.every("abc")), END])
 
     def wrong(self, problem, name, template, texts):
-        calls = [lambda: is_filled(template, texts, "qq"), lambda: is_filled(template, texts, None),
+        calls = [lambda: is_filled(template, texts, "qq"), lambda: is_filled(template, texts, ""),
                  lambda: least_filling(template, texts), lambda: plain_filling(template, texts)]
         for call in calls:
             with self.assertRaises(InvalidTexts) as caught:
@@ -256,10 +261,9 @@ class ErrorsTest(Case):
 
     def test_texts(self):
         for template in [self.template, self.refused]:
-            for value in OTHER_VALUES + ["", "x", ["x"], {"x"}, {"y": ""}, {"x": "", "y": ""}, {"X": ""}, {None: ""}, {("x",): ""},
-                                         [("x", "")]]:
+            for value in OTHER_NAMES:
                 self.wrong("names", None, template, value)
-            for text in [value for value in OTHER_VALUES + ["z", "abd", ["a", "b"], 0] if value != ""]:
+            for text in NO_TEXTS:
                 self.wrong("text", "x", template, {"x": text})
         two = Template(READER, [slot("x"), GO, slot("y", Language.of("ab", "b"))])
         self.wrong("text", "x", two, {"y": "a", "x": "c"})
@@ -270,6 +274,13 @@ class ErrorsTest(Case):
         for value in NOT_WORDS:
             self.fails(InvalidWord, value, lambda: is_filled(self.template, {"x": ""}, value))
             self.fails(InvalidWord, value, lambda: texts_in(self.template, value))
+
+    def test_pages_come_before_texts(self):
+        for value in NOT_WORDS:
+            for texts in OTHER_NAMES + [{"x": text} for text in NO_TEXTS]:
+                self.fails(InvalidWord, value, lambda: is_filled(self.template, texts, value))
+                self.fails(InvalidWord, value, lambda: is_filled(page=value, texts=texts, template=self.refused))
+            self.fails(InvalidWord, value, lambda: is_filled(Template(READER, [BEGIN]), {"x": ""}, value))
 
     def test_not_sealed(self):
         with self.assertRaises(NotSealed) as caught:
