@@ -1,10 +1,26 @@
-"""Sets of states ahead of the parts of a template. Those ahead of slots are integers here, as in `sets`."""
+"""Sets of states ahead of parts. They are integers here, as in `sets`."""
 
 from sealedslots.holding import Holding
 from sealedslots.parts import fixed_lasts
 from sealedslots.places import WHOLE
 from sealedslots.sets import Sets, ahead_of, bits_of, states_of
 from sealedslots.wholes import WholeTexts
+
+
+def sets_of_parts(parts, behind, ahead_of_part):
+    """Return the list of the sets ahead of all parts, and of the set behind them, as integers.
+
+    ahead_of_part(part, set behind) is the set ahead of a part.
+    """
+    found = [behind]
+    for part in reversed(parts):
+        found.append(ahead_of_part(part, found[-1]))
+    return list(reversed(found))
+
+
+def fixed_ahead(reader, sets, part, behind):
+    """Return the set ahead of a piece or a said part; sets are those of the reader."""
+    return ahead_of(fixed_lasts(reader, sets, part), behind)
 
 
 def sets_from_behind(template, ahead_of_slot):
@@ -14,15 +30,14 @@ def sets_from_behind(template, ahead_of_slot):
     """
     reader = template.reader
     sets = Sets(reader)
-    behind = bits_of(reader.ends())
-    found = [behind]
-    for part in reversed(template.parts()):
+
+    def ahead_of_part(part, behind):
         if part[0] == "slot":
-            behind = ahead_of_slot(part, behind)
-        else:
-            behind = ahead_of(fixed_lasts(reader, sets, part), behind)
-        found.append(behind)
-    return [states_of(bits) for bits in reversed(found)]
+            return ahead_of_slot(part, behind)
+        return fixed_ahead(reader, sets, part, behind)
+
+    found = sets_of_parts(template.parts(), bits_of(reader.ends()), ahead_of_part)
+    return [states_of(bits) for bits in found]
 
 
 class SlotSets:

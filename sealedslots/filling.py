@@ -1,8 +1,7 @@
 """Pages that fill templates, and for which texts there are some."""
 
-from sealedslots.errors import NotSealed
 from sealedslots.fillings import BETWEEN, Fillings
-from sealedslots.fits import is_divisible, least_fit
+from sealedslots.fits import divided, least_fit
 from sealedslots.pages import passed
 from sealedslots.parts import told_marks
 from sealedslots.readers import check_word, is_sign
@@ -10,8 +9,7 @@ from sealedslots.sealing import sets_ahead
 from sealedslots.search import least_way, reached
 from sealedslots.sets import bits_of, inside_marks, states_of
 from sealedslots.values import is_below, is_state_set
-from sealedslots.ways import least_told
-from sealedslots.written import written_words
+from sealedslots.written import plain_words
 
 
 def is_filled(template, texts, page):
@@ -19,7 +17,7 @@ def is_filled(template, texts, page):
     # The page is checked first: no other error is named for it.
     check_word(page)
     template.check_texts(texts)
-    return is_divisible(template, texts, page)
+    return divided(template, texts, page) is not None
 
 
 def texts_in(template, page):
@@ -27,13 +25,13 @@ def texts_in(template, page):
     found = passed(template.reader, template.reader.start, page)
     if found is None:
         return None
-    texts = _texts_between_marks(template, found[0])
+    texts = texts_between_marks(template, found[0])
     if not all([texts[name] in template.language_of(name) for name in texts]):
         return None
-    return texts if is_divisible(template, texts, page) else None
+    return None if divided(template, texts, page) is None else texts
 
 
-def _texts_between_marks(template, row):
+def texts_between_marks(template, row):
     """Return the dict from the slots to what the row has between the marks of the parts around them."""
     between = [""]
     for told in row:
@@ -59,15 +57,7 @@ def least_filling(template, texts):
 def plain_filling(template, texts):
     """Return the page that is written part by part, each slot by a writer that gets its whole text first."""
     template.check_texts(texts)
-    reader = template.reader
-    sets = sets_ahead(template)
-    if reader.start not in sets[0]:
-        raise NotSealed(None)
-
-    def slot_word(part, state, behind):
-        return least_told(reader, state, texts[part[1]], behind)
-
-    return "".join(written_words(template, sets, slot_word))
+    return "".join(plain_words(template, sets_ahead(template), texts))
 
 
 def find_unfillable(template):

@@ -75,13 +75,15 @@ def _reader_leads(reader, state):
     return [(sign, after) for sign, after, _ in reader.moves(state)]
 
 
+def ending_states(reader):
+    """Return the sorted list of the states that can end: from which some word passes to an end."""
+    return leading_into(reader.ends(), len(reader), lambda state: _reader_leads(reader, state))
+
+
 def useful_states(reader):
     """Return the sorted tuple of the useful states."""
-    def leads(state):
-        return _reader_leads(reader, state)
-
-    met = reached(reader.start, leads)
-    ending = leading_into(reader.ends(), len(reader), leads)
+    met = reached(reader.start, lambda state: _reader_leads(reader, state))
+    ending = ending_states(reader)
     return tuple(sorted([state for state in met if state in ending or state == reader.start]))
 
 

@@ -3,6 +3,7 @@
 from sealedslots.languages import Language
 from sealedslots.readers import is_mark, is_name, is_sign
 
+MAX_PARTS = 12
 MAX_PIECE_MOVES = 12
 MAX_SAID_MARKS = 6
 

@@ -7,7 +7,7 @@ writer fails whatever follows.
 
 from sealedslots.languages import live_leads
 from sealedslots.readers import is_sign
-from sealedslots.search import least_way
+from sealedslots.search import FirstTwo, least_way
 
 
 def told_signs(reader, state, word):
@@ -46,7 +46,7 @@ class Runs:
         self._door = door
         self._writer = writer
         self._signs = signs
-        self._lags = {}
+        self._lags = FirstTwo()
 
     def first(self):
         """Return the run of the empty text."""
@@ -69,7 +69,7 @@ class Runs:
         """Return those of the ways that may lead to the least text that fails, if the runs are met in sequence."""
         # Of two lags at the same states, one at least fails for each text that goes on from there. So a third one is
         # never needed: a lesser text fails whenever it does. Otherwise there could be runs without end.
-        return [(sign, after) for sign, after in self.ways(run) if self._is_one_of_two(after)]
+        return [(sign, after) for sign, after in self.ways(run) if self._lags.has(after[:3], after[3:])]
 
     def last(self, run):
         """Return the last state of the output if the text ends here, None if it fails or is none of the language."""
@@ -93,14 +93,6 @@ class Runs:
         if lag is None:
             return _broken(at)
         return (at, here, found[1]) + lag
-
-    def _is_one_of_two(self, run):
-        """Whether the run has one of the first two lags that are met at its states."""
-        lags = self._lags.setdefault(run[:3], [])
-        lag = run[3:]
-        if lag not in lags and len(lags) < 2:
-            lags.append(lag)
-        return lag in lags
 
 
 def least_failing(door, writer, signs):

@@ -35,15 +35,18 @@ def reached(first, leads):
 def least_way(first, leads, is_goal):
     """Return the least word that leads from the first node to a goal, None if there is none."""
     before, goal = explored(first, leads, is_goal)
-    if goal is None:
-        return None
+    return None if goal is None else "".join(retraced(before, goal))
+
+
+def retraced(before, node):
+    """Return the list of the signs of the least word that leads to the node; before is what `explored` returns."""
     signs = []
-    step = before[goal]
+    step = before[node]
     while step is not None:
         node, sign = step
         signs.append(sign)
         step = before[node]
-    return "".join(reversed(signs))
+    return list(reversed(signs))
 
 
 def leading_into(goals, many, leads):
@@ -63,6 +66,28 @@ def graph_from(firsts, leads):
             queue.extend([after for _, after in graph[node]])
         at += 1
     return graph
+
+
+def longest_way(first, leads):
+    """Return the greatest length of a word that leads from the first node to any node, None if there is none."""
+    graph = graph_from([first], leads)
+    waiting = {node: 0 for node in graph}
+    for ways in graph.values():
+        for _, after in ways:
+            waiting[after] += 1
+    lengths = {first: 0}
+    queue = [node for node in graph if waiting[node] == 0]
+    at = 0
+    # A node is taken when all ways to it are known; on a circle that never happens.
+    while at < len(queue):
+        node = queue[at]
+        for _, after in graph[node]:
+            lengths[after] = max(lengths[node] + 1, lengths.get(after, 0))
+            waiting[after] -= 1
+            if waiting[after] == 0:
+                queue.append(after)
+        at += 1
+    return None if len(queue) < len(graph) else max(lengths.values())
 
 
 def distances_to(goals, graph):
@@ -100,16 +125,34 @@ def _first_nearer(ways, distances, many):
     return [(sign, after) for sign, after in ways if distances.get(after, many) < many][0]
 
 
-def nearest_word(graph, distances, node):
-    """Return what nearest_way returns, where several ways from a node may have the same sign."""
-    if node not in distances:
+def nearest_word(graph, distances, firsts):
+    """Return the least word that leads from one of the first nodes to a goal of the distances, None if there is none.
+
+    Several ways from a node may have the same sign.
+    """
+    length = min([distances[node] for node in firsts if node in distances], default=None)
+    if length is None:
         return None
     signs = []
-    nodes = [node]
+    nodes = [node for node in firsts if distances.get(node) == length]
     # All nodes to which the same least word leads are kept: any of them may go on with the least sign.
-    for many in reversed(range(distances[node])):
+    for many in reversed(range(length)):
         ways = [way for here in nodes for way in graph[here] if distances.get(way[1]) == many]
         least = min([sign for sign, _ in ways])
         nodes = list({after: True for sign, after in ways if sign == least})
         signs.append(least)
     return "".join(signs)
+
+
+class FirstTwo:
+    """The first two values that are met with each key."""
+
+    def __init__(self):
+        self._met = {}
+
+    def has(self, key, value):
+        """Whether the value is one of the first two that were met with the key; it becomes one if there is room."""
+        met = self._met.setdefault(key, [])
+        if value not in met and len(met) < 2:
+            met.append(value)
+        return value in met

@@ -36,6 +36,21 @@ def least_sets(sets):
     return least
 
 
+class LeastSets:
+    """The sets that were met with some keys, but for those inside which another one lies."""
+
+    def __init__(self):
+        self._least = {}
+
+    def is_new(self, key, bits):
+        """Whether none of the sets with the key lies inside the set; it is kept then."""
+        least = self._least.get(key, [])
+        if has_inside(least, bits):
+            return False
+        self._least[key] = [other for other in least if other & bits != bits] + [bits]
+        return True
+
+
 def joined(table, bits):
     """Return the union of the sets to which the table leads from the states of the set."""
     found = 0

@@ -1,11 +1,10 @@
 """Templates: fixed parts, and slots for texts."""
 
 from sealedslots.errors import InvalidTemplate, InvalidTexts, UnknownSlot
-from sealedslots.parts import is_part, lacks_mark, told_marks
+from sealedslots.parts import MAX_PARTS, is_part, lacks_mark, told_marks
 from sealedslots.readers import is_name
 from sealedslots.values import has_keys, has_length
 
-MAX_PARTS = 12
 MAX_SLOTS = 4
 
 

@@ -1,5 +1,6 @@
 """Pages that are written part by part into the sets ahead."""
 
+from sealedslots.errors import NotSealed
 from sealedslots.pages import passed
 from sealedslots.ways import least_told
 
@@ -27,3 +28,18 @@ def written_words(template, sets, slot_word):
         _, state = passed(reader, state, word)
         words.append(word)
     return words
+
+
+def plain_words(template, sets, texts):
+    """Return the words of the parts that are written with these sets ahead, each slot with its whole text at once.
+
+    Raise NotSealed if the first of the sets does not contain the start.
+    """
+    reader = template.reader
+    if reader.start not in sets[0]:
+        raise NotSealed(None)
+
+    def slot_word(part, state, behind):
+        return least_told(reader, state, texts[part[1]], behind)
+
+    return written_words(template, sets, slot_word)
