@@ -36,6 +36,20 @@ FUNCTIONS = {
                 "quote_refusal": "door, writer", "is_quote_refusal": "door, writer, value"},
     "regimes": {"sets_with": "template, regimes", "is_sealed_with": "template, regimes",
                 "filling_with": "template, regimes, texts"},
+    "exchange": {"set_ahead": "reader, kinds, parts, behind", "exchange": "reader, kinds, one, other",
+                 "replaces": "reader, kinds, one, other", "parting_context": "reader, kinds, one, other",
+                 "is_exchange": "reader, kinds, one, other, value", "is_parting": "reader, kinds, one, other, value"},
+    "nested": {"sets_inside": "nesting, template, vector=None", "is_sealed_inside": "nesting, template, vector=None",
+               "filling_inside": "nesting, template, texts", "find_uncarried": "door, template", "is_carried": "door, template"},
+    "edits": {"rewrites": "document, slot, text", "reach": "document, slot, text, most_ahead, most_behind",
+              "disturbing": "template", "is_disturbing": "template, value"},
+    "several": {"first_stands": "template", "stands_behind": "template, word", "goes_on": "template, word",
+                "least_continuation": "template, word", "strays_at": "template, word", "common_page": "one, other",
+                "apartness": "one, other", "is_apartness": "one, other, value", "decided_after": "one, other"},
+    "changed": {"find_difference": "one, other", "pair_lags": "one, other", "is_pair_lags": "one, other, value",
+                "find_changed_filling": "template, reader", "moved": "document, reader"},
+    "texts": {"reader_text": "reader", "language_text": "language", "template_text": "template", "parse_reader": "text",
+              "parse_language": "text", "parse_template": "text"},
 }
 CLASSES = {
     ("readers", "Reader"): {
@@ -57,11 +71,24 @@ CLASSES = {
         "__init__": "self, opening, moves, endings, *, states=1", "raw": "signs", "table": "entries",
         "move": "self, state, sign", "ending": "self, state", "output": "self, text", "quoted": "self, x, y",
         "__len__": "self", "__eq__": "self, other"},
+    ("nested", "Nesting"): {"__init__": "self, door, inner", "triple": "self, state", "told_outside": "self, page",
+                            "__len__": "self", "__eq__": "self, other"},
+    ("documents", "Document"): {
+        "__init__": "self, template, texts", "of_page": "template, page", "words": "self", "states": "self", "texts": "self",
+        "stands": "self", "__len__": "self", "__eq__": "self, other", "clone": "self", "change": "self, slot, text"},
+    ("sorter", "Sorter"): {"__init__": "self, templates", "feed": "self, sign", "texts_so_far": "self", "winner": "self",
+                           "clone": "self", "__len__": "self"},
+    ("workshop", "Workshop"): {
+        "__init__": "self", "execute": "self, command", "run": "self, *commands", "log": "self", "replay": "log", "names": "self",
+        "thing": "self, name", "rehearse": "self, *commands", "clone": "self", "__len__": "self", "__contains__": "self, value",
+        "__eq__": "self, other"},
 }
 PROPERTIES = {("readers", "Reader"): ["start"], ("languages", "Language"): ["signs", "is_empty"],
               ("doors", "Door"): ["reader", "state", "behind", "language"], ("templates", "Template"): ["reader"],
               ("writers", "SlotWriter"): ["text", "held", "page", "state", "is_finished"],
-              ("writers", "PageWriter"): ["slot", "page"], ("given", "GivenWriter"): ["opening"]}
+              ("writers", "PageWriter"): ["slot", "page"], ("given", "GivenWriter"): ["opening"],
+              ("nested", "Nesting"): ["door", "inner", "reader"], ("documents", "Document"): ["template", "page"],
+              ("sorter", "Sorter"): ["page", "candidates", "sure", "strayed_at"], ("workshop", "Workshop"): []}
 GENERATORS = [("pages", "steps"), ("languages", "members")]
 
 
