@@ -188,13 +188,14 @@ def find_uncarried(door, template):
     if course.first() is None:
         return None
     sets = Sets(door.reader)
+    steps = {sign: sets.step_unions(sign) for sign in template.reader.page_signs()}
     wanted = bits_of(door.behind)
     least = LeastSets()
 
     def leads(node):
         found = []
         for sign, place in course.leads(node[0]):
-            at, bits = _outer_behind(door, sets, node, sign)
+            at, bits = _outer_behind(door, steps, node, sign)
             # What fails with more states fails with fewer, too; so a lesser page fails if a set inside was met.
             if least.is_new((place, at), bits):
                 found.append((sign, (place, at, bits)))
@@ -208,11 +209,11 @@ def find_uncarried(door, template):
     return least_way(first, leads, is_goal)
 
 
-def _outer_behind(door, sets, node, sign):
+def _outer_behind(door, steps, node, sign):
     """Return (language state, set of states) behind the sign of a page, (None, 0) if no text goes on with it."""
     _, at, bits = node
     after = None if at is None else live_move(door.language, at, sign)
-    behind = 0 if after is None else sets.step(bits, sign)
+    behind = 0 if after is None else steps[sign][bits]
     return (after, behind) if behind else (None, 0)
 
 

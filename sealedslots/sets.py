@@ -40,10 +40,15 @@ class LeastSets:
     """The sets that were met with some keys, but for those inside which another one lies."""
 
     def __init__(self):
+        self._met = {}
         self._least = {}
 
     def is_new(self, key, bits):
-        """Whether none of the sets with the key lies inside the set; it is kept then."""
+        """Whether none of the sets that were met with the key lies inside the set, which is met now."""
+        # Most sets are met again and again; only the others are worth a look at all least ones.
+        if (key, bits) in self._met:
+            return False
+        self._met[(key, bits)] = True
         least = self._least.get(key, [])
         if has_inside(least, bits):
             return False
