@@ -47,7 +47,7 @@ class Course:
 
     def least_rest(self, place):
         """Return the least word that leads from the place to one at which the template is filled."""
-        return least_way(place, lambda at: self.leads(at), lambda at: self.is_full(at))
+        return least_way(place, lambda at: self.leads(at), lambda other: self.is_full(other))
 
     def _place_of(self, nodes):
         """Return the number of the place with those of the nodes that are live, None if none is."""

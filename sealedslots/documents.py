@@ -16,9 +16,11 @@ class Document:
 
     def __init__(self, template, texts):
         template.check_texts(texts)
+        sets = sets_ahead(template)
         self._template = template
-        self._words = plain_words(template, sets_ahead(template), texts)
-        self._bounds = None
+        self._words = plain_words(template, sets, texts)
+        # The template is sealed: the sets ahead bind the words of all changes.
+        self._bounds = sets
 
     @classmethod
     def of_page(cls, template, page):
@@ -36,6 +38,7 @@ class Document:
         document = cls(Template(Reader([{}], [0]), [("piece", ())]), {})
         document._template = template
         document._words = list(words)
+        document._bounds = None
         return document
 
     @property

@@ -4,14 +4,21 @@ import inspect
 import unittest
 
 from sealedslots.covers import least_behind, writable_texts
+from sealedslots.documents import Document
 from sealedslots.doors import Door, is_writable, last_states, silent, step
-from sealedslots.errors import InvalidRow, InvalidState, InvalidStates, InvalidTexts, InvalidWord, NotMember, Unreadable
+from sealedslots.edits import reach, rewrites
+from sealedslots.errors import (InvalidKinds, InvalidParts, InvalidRow, InvalidState, InvalidStates, InvalidText, InvalidTexts, InvalidWord,
+                                NotFilled, NotMember, UnknownSlot, Unreadable)
+from sealedslots.exchange import set_ahead
 from sealedslots.filling import is_filled, texts_in
 from sealedslots.given import GivenWriter, failure
 from sealedslots.languages import Language
+from sealedslots.nested import Nesting
 from sealedslots.pages import passed, reading, steps
 from sealedslots.readers import Reader
+from sealedslots.several import goes_on, least_continuation, stands_behind, strays_at
 from sealedslots.templates import Template
+from sealedslots.texts import parse_language, parse_reader, parse_template
 from sealedslots.writings import least_word, least_writing
 from tests.cases import NOT_WORDS, Case, no_sets, no_states
 
@@ -22,6 +29,8 @@ TEMPLATE = Template(READER, [("slot", "x", LANGUAGE), ("said", ("go",))])
 # No page fills it, and its slot has no text that can be written.
 UNFILLED = Template(READER, [("slot", "x", Language.of("b", "b"))])
 BROKEN = GivenWriter("", {}, {})
+NESTING = Nesting(Door(Reader([{"x": (0, "p"), "y": (0, "q")}]), 0, [0], Language.every("pq")), READER)
+DOCUMENT = Document.of_page(TEMPLATE, "pq")
 
 ERRORS = {"state": InvalidState, "target": InvalidState, "states": InvalidStates, "behind": InvalidStates,
           "word": InvalidWord, "page": InvalidWord, "text": InvalidWord}
@@ -48,6 +57,13 @@ FUNCTIONS = [
     (lambda state: list(READER.moves(state)), {"state": 0}, {}),
     (BROKEN.output, {"text": ""}, {}),
     (Language.every("a").move, {"state": 0, "sign": "a"}, {}),
+    (NESTING.triple, {"state": 0}, {}),
+    (NESTING.told_outside, {"page": "xy"}, {}),
+    (Document.of_page, {"template": TEMPLATE, "page": "pq"}, {"template": [UNFILLED]}),
+    (stands_behind, {"template": TEMPLATE, "word": "p"}, {"template": [UNFILLED]}),
+    (goes_on, {"template": TEMPLATE, "word": "p"}, {"template": [UNFILLED]}),
+    (least_continuation, {"template": TEMPLATE, "word": "p"}, {"template": [UNFILLED]}),
+    (strays_at, {"template": TEMPLATE, "word": "p"}, {"template": [UNFILLED]}),
 ]
 
 
@@ -80,7 +96,24 @@ class FirstErrorsTest(Case):
             self.fails(InvalidRow, 5, lambda: least_word(READER, 0, 5, value))
             self.fails(InvalidState, value, lambda: least_word(READER, 0, ("go",), value))
 
+        for value in no_sets(2):
+            self.assertRaises(InvalidKinds, set_ahead, READER, [], None, value)
+            self.assertRaises(InvalidParts, set_ahead, READER, [(LANGUAGE, 0)], None, value)
+            self.fails(InvalidStates, value, lambda: set_ahead(READER, [(LANGUAGE, 0)], [], value))
+
+    def test_texts_for_which_another_error_is_named(self):
+        for value in NOT_WORDS:
+            for call in (DOCUMENT.change, lambda *rest: rewrites(DOCUMENT, *rest), lambda *rest: reach(DOCUMENT, *rest, None, None)):
+                self.assertRaises(UnknownSlot, call, "y", value)
+                self.assertRaises(NotMember, call, "x", value)
+            for call in (parse_reader, parse_language, parse_template):
+                self.assertRaises(InvalidText, call, value)
+
     def test_errors_that_come_then(self):
+        with self.assertRaises(NotFilled):
+            Document.of_page(TEMPLATE, "z")
+        with self.assertRaises(Unreadable):
+            NESTING.told_outside("z")
         with self.assertRaises(Unreadable):
             reading(READER, "p")
         with self.assertRaises(NotMember):

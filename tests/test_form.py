@@ -224,6 +224,41 @@ class StatementsTest(unittest.TestCase):
                     iterated = isinstance(around, (ast.For, ast.comprehension)) and around.iter is node
                     self.assertTrue(iterated or called(around) in ITERATING | {"join"}, (path, node.lineno))
 
+    def test_lambdas_on_one_line(self):
+        for path, tree in trees():
+            met = set()
+            for node in ast.walk(tree):
+                if isinstance(node, ast.Lambda):
+                    key = node.lineno, tuple(argument.arg for argument in node.args.args)
+                    self.assertNotIn(key, met, path)
+                    self.assertEqual(node.args.defaults, [])
+                    met.add(key)
+
+    def test_handlers_name_own_errors(self):
+        own = {node.name for node in ast.parse((PACKAGE / "errors.py").read_text()).body if isinstance(node, ast.ClassDef)}
+        for path, tree in trees():
+            for node in ast.walk(tree):
+                if isinstance(node, ast.ExceptHandler):
+                    named = node.type.elts if isinstance(node.type, ast.Tuple) else [node.type]
+                    self.assertTrue({each.id for each in named} <= own, path)
+                if isinstance(node, ast.Raise) and node.exc is not None:
+                    self.assertIn(node.exc.func.id, own, path)
+
+    def test_properties_are_no_names_of_methods(self):
+        methods, properties, generators = set(), set(), set()
+        for _, tree in trees():
+            for node in ast.walk(tree):
+                for part in node.body if isinstance(node, ast.ClassDef) else []:
+                    if isinstance(part, ast.FunctionDef):
+                        kinds = [ast.unparse(decorator) for decorator in part.decorator_list]
+                        (properties if "property" in kinds else methods).add(part.name)
+                if isinstance(node, ast.FunctionDef) and any(isinstance(part, ast.Yield) for part in ast.walk(node)):
+                    generators.add(node.name)
+        self.assertFalse(properties & methods)
+        for name in generators:
+            defined = [node for _, tree in trees() for node in ast.walk(tree) if isinstance(node, ast.FunctionDef) and node.name == name]
+            self.assertEqual(len(defined), 1, name)
+
     def test_generator_expressions_are_lists_beside_eq(self):
         for path, tree in trees():
             for node in ast.walk(tree):
