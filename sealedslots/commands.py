@@ -8,7 +8,7 @@ EMPTY_LIST = "."
 
 
 def command_words(value):
-    """Return (words of the first line, text of the further lines, None if there are none) of the command.
+    """Return (words of the first line, text of the further lines) of the command.
 
     Raise InvalidCommand if the value is not a command.
     """
@@ -18,7 +18,7 @@ def command_words(value):
     words = line.split(" ")
     if not _is_command(words) or (feed != "") != (words[0] == "define"):
         raise InvalidCommand(value)
-    return (words, text if feed else None)
+    return (words, text)
 
 
 def _is_command(words):
@@ -48,8 +48,8 @@ def _is_text(word):
 
 def _is_assignment(word):
     """Whether the word has the form SLOT=TEXT."""
-    slot, equals, text = word.partition("=")
-    return is_name(slot) and equals == "=" and _is_text(text)
+    slot, _, text = word.partition("=")
+    return is_name(slot) and _is_text(text)
 
 
 def text_of_word(word):

@@ -178,6 +178,9 @@ class ExamplesTest(Case):
         for lag in [((), ()), (("z",), ()), ((), ("other", "a"))]:
             self.assertIs(is_pair_lags(one, Reader([{"p": (0, "a")}, {}], [0]), {(0, 0): ((), ()), (1, 1): lag}), True)
             self.assertIs(is_pair_lags(one, other, {(0, 0): ((), ()), (1, 0): lag}), False)
+        for lag in [(("GO",), ()), ((), ("GO",)), (["a"], ()), ((), ["a"]), (("a",), ("b",)), (("a",), ("a",)), ((), "a"), ("", ()), (None, ()),
+                    ((), (1,)), (("",), ()), ((),), ((), (), ())]:
+            self.assertIs(is_pair_lags(one, Reader([{"p": (0, "a")}, {}], [0]), {(0, 0): ((), ()), (1, 1): lag}), False)
 
     def test_changed_fillings(self):
         reader = Reader([{"p": (0, "a"), "q": (1, "go"), "s": (0, "b")}, {"p": (1, "a"), "q": (1, None)}], [1])
@@ -229,6 +232,9 @@ class ValuesTest(Case):
         bad = [list(good.items()), [good], (good,), {**good, (0,): ((), ())}, {**good, (0, 0, 0): ((), ())}, {**good, 0: ((), ())},
                {**good, (3, 0): ((), ())}, {**good, (0, 3): ((), ())}, {**good, (-1, 0): ((), ())}, {**good, ("0", 0): ((), ())},
                {**good, None: ((), ())}, {**good, (None, 0): ((), ())}, {(0, 0): [(), ()], (1, 1): (("go",), ()), (2, 2): ((), ())}]
+        # Neither of these would be an end.
+        bad += [{**good, pair: ((), ())} for pair in [(3, 1), (1, 3), (-1, 1), (1, -1), ("1", 1), (1, "1"), (None, 1), (1, None), (1, 1, 1), (1,),
+                                                      ((1,), 1), (10 ** 29, 1), (1, 4)]]
         for lag in [((),), ((), (), ()), ([], ()), ((), []), (["go"], ()), (("go",), None), (("GO",), ()), (("",), ()), (("go", ""), ()),
                     ("go", ""), ("", ""), (("toolonger",), ()), ((1,), ()), ((None,), ()), ((("go",),), ()), (("go", True), ()), (("a b",), ())]:
             bad += [{**good, (1, 1): lag}, {**good, (0, 0): lag}]

@@ -243,6 +243,17 @@ class ExamplesTest(Case):
         self.assertEqual((said.change("x", "b"), said.page), ((1,), "qs"))
         self.assertEqual((said.change(text="a", slot="x"), said.page), ((1,), "pr"))
 
+    def test_pieces_tell_the_same_at_the_same_signs(self):
+        # Behind b the word qr tells go, too, but with its second sign.
+        reader = Reader([{"p": (1, "a"), "q": (2, "b")}, {"q": (3, "go")}, {"q": (4, None)}, {"r": (5, None)}, {"r": (5, "go")}, {}], [5])
+        both, piece = Language.of("ab", "a", "b"), ("piece", (("q", "go"), ("r", None)))
+        document = Document.of_page(Template(reader, [("slot", "x", both), piece]), "pqr")
+        self.assertIsNone(rewrites(document, "x", "b"))
+        self.assertRaises(NoWay, document.change, "x", "b")
+        self.assertEqual(reach(document, "x", "b", 1, 1), [(0,), (2, 4), ()])
+        said = Document.of_page(Template(reader, [("slot", "x", both), GO]), "pqr")
+        self.assertEqual((rewrites(said, "x", "b"), said.change("x", "b"), said.page), ((0, 0), (), "qqr"))
+
     def test_the_lengths_decide_last(self):
         # The silent sign t may belong to either part; behind the change the slot takes as few signs as it can.
         template = Template(self.READER, [NOTHING, ("slot", "x", self.TEXTS), NOTHING])

@@ -6,7 +6,7 @@ import unittest
 
 from sealedslots.doors import Door
 from sealedslots.errors import TooLarge
-from sealedslots.exchange import exchange, is_exchange, parting_context, replaces, set_ahead
+from sealedslots.exchange import exchange, is_exchange, is_parting, parting_context, replaces, set_ahead
 from sealedslots.languages import Language
 from sealedslots.readers import Reader
 from sealedslots.games import is_written_with
@@ -50,6 +50,20 @@ class SetAheadTest(Case):
         for entry in range(5):
             wanted = tuple(state for state in range(8) if is_written_with(Door(reader, state, [7], language), entry))
             self.assertEqual(found[entry], wanted)
+
+    def test_each_slot_has_the_entry_of_its_kind(self):
+        # The text aab has to be known ahead of its first sign; a alone is always written.
+        reader = Reader([{"p": (1, "a"), "q": (2, "a")}, {"p": (3, "b")}, {"p": (3, "a")}, {"q": (0, "go")}], [3])
+        late, soon = Language.of("ab", "ab", "aa"), Language.of("ab", "ab")
+        slots = [("slot", "x", late), ("slot", "x", soon)]
+        for entries, wanted in [((0, 4), [(), (0,)]), ((4, 0), [(0,), (0,)]), ((1, 0), [(0,), (0,)]), ((0, 0), [(), (0,)])]:
+            kinds = [(late, entries[0]), (soon, entries[1])]
+            for given in (kinds, kinds[::-1]):
+                self.assertEqual([set_ahead(reader, given, [slot], [3]) for slot in slots], wanted)
+                row = [slots[1], GO, slots[0]]
+                self.assertEqual(set_ahead(reader, given, row, [3]), wanted[0])
+                self.assertIs(is_parting(reader, given, [slots[0]], [slots[1]], ((), ())), wanted[0] == ())
+                self.assertIs(replaces(reader, given, [slots[0]], [slots[1]]), wanted[0] != ())
 
     def test_twelve_parts_with_equal_names(self):
         kinds = [(EVERY, 0), (ONE, 4), (Language.of("ab", ""), 2), (Language.of("a", "a"), 1)]

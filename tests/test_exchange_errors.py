@@ -19,6 +19,7 @@ FOREIGN = ("slot", "z", Language.every("a"))
 
 BAD_KINDS = [(value, None) for value in OTHER_VALUES + ["", "ab", 0, KINDS * 3, {0: (EVERY, 4)}, EVERY, {}, KINDS[0][0]]
              if not isinstance(value, (list, tuple)) or len(value) in (0, 6)]
+BAD_KINDS += [([(Language.of("ab", "b" * many), 0) for many in range(5)], None)]
 BAD_KINDS += [([value], 0) for value in OTHER_VALUES] + [
     ([(EVERY, value)], 0) for value in OTHER_VALUES + [5, 6, -2, "4", "0", [4], (4,)]] + [
     ([(value, 4)], 0) for value in OTHER_VALUES + ["ab", 0]] + [

@@ -154,6 +154,12 @@ class ExamplesTest(Case):
         renamed = Reader([{"p": (1, "a"), "q": (1, "b")}, {"s": (2, "go")}, {}], [2])
         with self.assertRaises(NoWay):
             moved(piece, renamed)
+        early = Reader([{"p": (1, "a")}, {"q": (2, "go")}, {"r": (3, None)}, {}], [3])
+        late = Reader([{"p": (1, "a")}, {"q": (2, None)}, {"r": (3, "go")}, {}], [3])
+        slot = ("slot", "x", Language.of("a", "a"))
+        two = Document.of_page(Template(early, [slot, ("piece", (("q", "go"), ("r", None)))]), "pqr")
+        self.assertRaises(NoWay, moved, two, late)
+        self.assertEqual(moved(Document.of_page(Template(early, [slot, GO]), "pqr"), late).words(), ["p", "qr"])
         said = Document.of_page(Template(self.ONE, self.PARTS), "pr")
         self.assertEqual(moved(said, renamed).page, "ps")
 

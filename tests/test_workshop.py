@@ -383,6 +383,7 @@ class ObjectsTest(Case):
         self.assertEqual(copy.log(), workshop.log())
         copy.execute("change p x=aa")
         workshop.execute("drop t")
+        self.assertEqual((copy.log()[9:], workshop.log()[9:]), ([("change p x=aa", "ppr")], [("drop t", "ok")]))
         self.assertEqual((copy.execute("show p"), workshop.execute("show p")), ("ppr", "pr"))
         self.assertEqual(("t" in copy, "t" in workshop), (True, False))
         self.assertEqual((copy.execute("undo"), copy.execute("show p"), workshop.execute("undo"), len(workshop)), ("9", "pr", "9", 9))
