@@ -167,6 +167,13 @@ class ExamplesTest(Case):
         third.feed("z")
         self.assertEqual((third.strayed_at, copy.strayed_at, third.clone().strayed_at), (3, None, 3))
 
+    def test_equality(self):
+        sorter = Sorter(self.templates()[:2])
+        self.assertTrue(sorter == sorter)
+        for value in OTHER_VALUES + [self.templates(), self.templates()[0], "", 2]:
+            self.assertFalse(sorter == value)
+            self.assertTrue(sorter != value)
+
     def test_two_sorters_of_the_same_templates(self):
         templates = self.templates()[:2]
         one, other = Sorter(templates), Sorter(templates=templates)
